@@ -1,0 +1,1 @@
+"""Slotpages: rows of any length in pages of fixed room."""
