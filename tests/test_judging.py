@@ -53,7 +53,8 @@ class TestJudge(unittest.TestCase):
         for first, second, told in (
                 ((0, 5), (5, 5), None), ((5, 5), (0, 5), None), ((0, 5), (4, 1), (0, 4)), ((4, 1), (0, 5), (0, 4)),
                 ((0, 24), (23, 1), (0, 4)), ((3, 9), (5, 2), (0, 4)), ((5, 2), (3, 9), (0, 4)),
-                ((1, 1), (1, 1), (0, 4)), ((0, 24), (12, 0), None), ((12, 0), (0, 24), None), ((3, 0), (3, 0), None), ((3, 2), (3, 0), None)):
+                ((1, 1), (1, 1), (0, 4)), ((0, 24), (12, 0), None), ((12, 0), (0, 24), None),
+                ((3, 0), (3, 0), None), ((3, 2), (3, 0), None)):
             slots = (FREE, ("row", 0) + first + (None,), FREE, FREE, ("row", 0) + second + (None,))
             self.assertEqual(judge([page(slots)]), told, (first, second))
         self.assertEqual(judge([page((part(5), part(5, begin=3)))]), (0, 1))
