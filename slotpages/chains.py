@@ -25,6 +25,11 @@ def row_places(sheets):
     ]
 
 
+def row_names(sheets):
+    """The names of the rows, rising."""
+    return [(*place, slot_at(sheets, place)[1]) for place in row_places(sheets)]
+
+
 def values_from(sheets, place):
     """The values of the row whose own slot is at this place."""
     values = []

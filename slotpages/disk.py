@@ -7,6 +7,11 @@ LEAST_PAGES = 2
 GREATEST_COUNT = 10 ** 6
 
 
+def all_pages(disk):
+    """The pages of a disk, in their order."""
+    return [disk.page(number) for number in range(disk.pages())]
+
+
 class Disk:
     """Pages that are read and written one at a time."""
 

@@ -1,8 +1,9 @@
-"""The bounds of pages and slots, and whether a thing is such."""
+"""The bounds of pages, slots and rows, and whether a thing is such."""
 
 SLOTS = 8
 CELLS = 24
 MOST_PAGES = 12
+MOST_VALUES = 300
 GREATEST_CELL = 99
 GREATEST_TURN = 99
 SPENT_TURN = 100
@@ -46,14 +47,22 @@ def is_slot(thing):
     return thing[0] == "part" and _holds(thing, 1)
 
 
+def are_values(things):
+    """Whether the things of a list or a tuple are numbers that cells may have."""
+    return all(is_number(thing, 0, GREATEST_CELL) for thing in things)
+
+
+def are_cells(thing):
+    """Whether a thing is a tuple of 24 cells."""
+    return is_tuple(thing, CELLS) and are_values(thing)
+
+
 def is_frame(thing):
     """Whether a thing is a tuple of eight things, be they slots or not, and of 24 cells."""
     if not is_tuple(thing, 2):
         return False
     slots, cells = thing
-    if not is_tuple(slots, SLOTS) or not is_tuple(cells, CELLS):
-        return False
-    return all(is_number(cell, 0, GREATEST_CELL) for cell in cells)
+    return is_tuple(slots, SLOTS) and are_cells(cells)
 
 
 def is_page(thing):

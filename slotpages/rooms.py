@@ -10,6 +10,14 @@ def usable_pages(sheets, but=None):
     return sorted(usable, key=lambda number: -free_cells(sheets[number]))
 
 
+def pages_for_put(sheets):
+    """The numbers of the pages that a row that is put may lie in, the one for its own slot first."""
+    pages = usable_pages(sheets)
+    if not pages:
+        raise Full("no page may be used")
+    return pages
+
+
 def shares(many, rooms):
     """How many of so many values lie in each of the first rooms, as few as do; in the first one perhaps none.
 

@@ -29,6 +29,11 @@ def with_slot(page, at, slot):
     return slots[:at] + (slot,) + slots[at + 1:], cells
 
 
+def with_part_free(page, at):
+    """The page with the part in this place made free, its turn staying."""
+    return with_slot(page, at, ("free", page[0][at][1]))
+
+
 def with_values(page, at, word, values, after):
     """The page with a row or a part of these values in this slot, which keeps its turn."""
     held = [(slot, _cells_of(page, slot)) for slot in page[0]]

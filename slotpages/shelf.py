@@ -5,14 +5,13 @@ parts are written to which no row leads yet, behind it only parts are made free 
 more. So a stop leaves lost parts at the most, and the next shelf makes them free.
 """
 
-from slotpages.chains import places_from, row_places, slot_at, values_from
-from slotpages.errors import BadRow, Full, NoRow
-from slotpages.forms import GREATEST_CELL, GREATEST_TURN, SLOTS, is_number, is_tuple
+from slotpages.chains import places_from, row_names, slot_at, values_from
+from slotpages.disk import all_pages
+from slotpages.errors import BadRow, NoRow
+from slotpages.forms import GREATEST_TURN, MOST_VALUES, SLOTS, are_values, is_number, is_tuple
 from slotpages.judging import lost
-from slotpages.rooms import shares, usable_pages
-from slotpages.sheet import free_cells, room_at, usable_slots, with_slot, with_values
-
-MOST_VALUES = 300
+from slotpages.rooms import pages_for_put, shares, usable_pages
+from slotpages.sheet import free_cells, room_at, usable_slots, with_part_free, with_slot, with_values
 
 
 class Shelf:
@@ -26,9 +25,7 @@ class Shelf:
         """Put a row of these values, and tell its name."""
         sheets = self._pages()
         _check_values(values)
-        pages = usable_pages(sheets)
-        if not pages:
-            raise Full("no page may be used")
+        pages = pages_for_put(sheets)
         number = pages[0]
         at = usable_slots(sheets[number])[0]
         self._settle(sheets, (number, at), pages[1:], values)
@@ -41,8 +38,7 @@ class Shelf:
 
     def names(self):
         """The names of all rows, rising."""
-        sheets = self._pages()
-        return [(*place, slot_at(sheets, place)[1]) for place in row_places(sheets)]
+        return row_names(self._pages())
 
     def parts(self, name):
         """In how many slots a row lies."""
@@ -86,7 +82,7 @@ class Shelf:
         return cells, sum(len(usable_slots(sheet)) for sheet in sheets)
 
     def _pages(self):
-        return [self._disk.page(number) for number in range(self._disk.pages())]
+        return all_pages(self._disk)
 
     def _settle(self, sheets, place, pages, values):
         """Lay values in the own slot at a place, and in parts in the first of these pages, as few as do."""
@@ -106,8 +102,7 @@ class Shelf:
     def _free(self, places):
         """Make parts free. None of them may be led to, but by one ahead of it among them."""
         for number, at in places:
-            page = self._disk.page(number)
-            self._disk.write(number, with_slot(page, at, ("free", page[0][at][1])))
+            self._disk.write(number, with_part_free(self._disk.page(number), at))
 
     def _free_lost(self):
         sheets = self._pages()
@@ -125,7 +120,7 @@ class Shelf:
 def _check_values(values):
     if not isinstance(values, list) or len(values) > MOST_VALUES:
         raise BadRow("a row is a list of at most 300 values")
-    if not all(is_number(value, 0, GREATEST_CELL) for value in values):
+    if not are_values(values):
         raise BadRow("a value is a number from 0 to 99")
 
 

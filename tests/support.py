@@ -3,6 +3,8 @@
 from itertools import combinations
 
 from slotpages.disk import Disk
+from slotpages.errors import Full, Stopped
+from slotpages.shelf import Shelf
 
 # Nothing among these is a number where numbers are told.
 NO_NUMBERS = (True, False, None, "1", "", (), (1,))
@@ -110,3 +112,75 @@ def homes(pages):
             for place in chain[1:]:
                 free[place[0]] += slots[place][3]
     return told
+
+
+def mended(pages):
+    """The pages with all parts free to which no row leads."""
+    kept = {place for name in rows_of(pages) for place in row_chain(pages, name[:2])}
+    return [
+        (tuple(slot if slot[0] != "part" or (number, at) in kept else ("free", slot[1])
+               for at, slot in enumerate(slots)), cells)
+        for number, (slots, cells) in enumerate(pages)
+    ]
+
+
+def wild_pages(chance, many):
+    """Pages that judge lets by: with gaps, lost parts, rings, turns at their bounds, rows of no values."""
+    ends = {}
+    pages = []
+    for number in range(many):
+        slots = []
+        begin = 0
+        for at in range(8):
+            word = chance.choice(("free", "row", "part"))
+            size = chance.randrange(word == "part", 9)
+            if word == "free" or begin + size > 24:
+                slots.append(("free", chance.choice((0, 1, 99, 100))))
+                continue
+            slots.append((word, chance.choice((0, 7, 99)), begin, size))
+            ends[number, at] = None
+            begin = min(24, begin + size + chance.choice((0, 0, 1, 3)))
+        pages.append((slots, tuple(chance.randrange(100) for _ in range(24))))
+    parts = [place for place in ends if pages[place[0]][0][place[1]][0] == "part"]
+    chance.shuffle(parts)
+    for place in ends:
+        if parts and chance.random() < 0.7:
+            ends[place] = parts.pop()
+    return [
+        (tuple(slot if slot[0] == "free" else slot + (ends[number, at],) for at, slot in enumerate(slots)), cells)
+        for number, (slots, cells) in enumerate(pages)
+    ]
+
+
+def stopped_pages(chance, many):
+    """Pages as a shelf leaves them behind some deeds, of which the disk stopped the last one, with lost parts often."""
+    disk = Disk(many)
+    shelf = Shelf(disk)
+    for _ in range(chance.randrange(3, 4 * many)):
+        some_deed(chance, shelf)
+    disk.arm(chance.randrange(3))
+    try:
+        for _ in range(3):
+            some_deed(chance, shelf)
+    except Stopped:
+        pass
+    disk.again()
+    return pages_of(disk)
+
+
+def some_deed(chance, shelf):
+    """Do some deed, or none where it is refused as Full."""
+    names = shelf.names()
+    word = chance.choice(("put", "put", "put", "change", "change", "drop", "tidy"))
+    values = [chance.randrange(100) for _ in range(chance.choice((0, 3, 9, 20, 30, 45)))]
+    try:
+        if word == "put":
+            shelf.put(values)
+        elif word == "tidy":
+            shelf.tidy()
+        elif names and word == "change":
+            shelf.change(chance.choice(names), values)
+        elif names:
+            shelf.drop(chance.choice(names))
+    except Full:
+        pass

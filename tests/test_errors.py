@@ -1,6 +1,6 @@
 import unittest
 
-from slotpages import disk, errors, judging, shelf
+from slotpages import disk, errors, judging, notes, plays, shelf, spread, walk
 
 KINDS = ("BadDisk", "NoPage", "BadPage", "BadCount", "Stopped", "BadRow", "NoRow", "Full", "BadText")
 
@@ -15,10 +15,15 @@ class TestErrors(unittest.TestCase):
     def test_what_the_interface_lists_is_defined_where_it_is_listed(self):
         for kind in KINDS + ("PageError",):
             self.assertEqual(getattr(errors, kind).__module__, "slotpages.errors")
-        for told in (judging.judge, judging.lost):
-            self.assertEqual(told.__module__, "slotpages.judging")
-        for kind, methods in ((disk.Disk, "pages writes page write arm again"),
-                              (shelf.Shelf, "put get names tidy change drop parts room")):
+        for module, names in ((judging, "judge lost"), (spread, "fewest held apart"), (notes, "written read"),
+                              (plays, "played written_steps read_steps")):
+            for name in names.split():
+                self.assertEqual(getattr(module, name).__module__, module.__name__)
+        for module, name, methods in ((disk, "Disk", "pages writes page write arm again"),
+                                      (shelf, "Shelf", "put get names tidy change drop parts room"),
+                                      (walk, "Walk", "step"), (plays, "Play", "do sheets")):
+            kind = getattr(module, name)
+            self.assertEqual(kind.__module__, module.__name__)
             for method in methods.split():
                 self.assertIn(method, vars(kind))
 
