@@ -38,7 +38,7 @@ class Full(PageError):
 
 
 class BadText(PageError):
-    """A text can't be read; `line` tells where."""
+    """A text can't be read; `line` tells how many rows were read ahead of where it fails."""
 
     def __init__(self, line):
         super().__init__(f"row {line} can't be read")

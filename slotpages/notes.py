@@ -24,7 +24,7 @@ def read(text):
     sheets = []
     slots = []
     rows = rows_of(text)
-    for line, row in enumerate(rows, start=1):
+    for line, row in enumerate(rows):
         if len(slots) < SLOTS:
             slot = _slot_of(row)
             if not is_slot(slot):

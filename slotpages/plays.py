@@ -87,7 +87,7 @@ def written_steps(steps):
 def read_steps(text):
     """The steps that a text tells."""
     steps = []
-    for line, row in enumerate(rows_of(text), start=1):
+    for line, row in enumerate(rows_of(text)):
         step = _step_of(row)
         if step is None:
             raise BadText(line)

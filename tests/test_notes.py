@@ -125,22 +125,22 @@ class TestRead(unittest.TestCase):
 
     def test_rows_that_are_no_slots(self):
         for bad in BAD_ROWS:
-            for line in (1, 8, 10, 17):
+            for line in (0, 7, 9, 16):
                 rows = (FRESH + "\n" + FRESH).split("\n")
-                rows[line - 1] = bad
+                rows[line] = bad
                 self.refused(rows, line)
 
     def test_rows_that_are_no_cells(self):
         for bad in BAD_CELLS:
-            for line in (9, 18):
+            for line in (8, 17):
                 rows = (FRESH + "\n" + FRESH).split("\n")
-                rows[line - 1] = bad
+                rows[line] = bad
                 self.refused(rows, line)
 
     def test_the_first_row_that_can_not_be_is_told(self):
         rows = (FRESH + "\n" + FRESH).split("\n")
-        for line in range(18, 0, -1):
-            rows[line - 1] = "no"
+        for line in reversed(range(18)):
+            rows[line] = "no"
             self.refused(rows, line)
 
     def test_more_must_come(self):
@@ -152,45 +152,56 @@ class TestRead(unittest.TestCase):
                 self.refused(rows[:count], count)
 
     def test_a_row_that_can_not_be_comes_ahead_of_those_that_must_come(self):
-        self.refused(["free 0", "no", "free 0"], 2)
-        self.refused(["free 0", "free 0", "no"], 3)
-        self.refused(["no"], 1)
+        self.refused(["free 0", "no", "free 0"], 1)
+        self.refused(["free 0", "free 0", "no"], 2)
+        self.refused(["no"], 0)
+
+    def test_a_last_row_that_can_not_be_is_told_from_one_that_is_missed(self):
+        self.refused(["free 39", "xx"], 1)
+        self.refused(["free 39", "free 39"], 2)
+        self.refused(["free 39"], 1)
+        self.refused(["xx"], 0)
+        cells = "cells 87 97 " + "0 " * 18 + "19^ 67 95 41"
+        self.refused(["free 0"] * 8 + [cells], 8)
+        self.refused(["free 0"] * 8, 8)
+        self.refused(["free 0"] * 7 + ["xx"], 7)
+        self.assertEqual(len(read("\n".join(["free 0"] * 8 + [cells.replace("^", "")]))), 1)
 
     def test_a_row_left_out(self):
         for at in range(8):
             rows = ["free 1"] * 8 + [CELLS] + FRESH.split("\n")
             del rows[at]
-            self.refused(rows, 8)
+            self.refused(rows, 7)
         rows = FRESH.split("\n")[:8] + FRESH.split("\n")
-        self.refused(rows, 9)
+        self.refused(rows, 8)
 
     def test_a_row_too_much(self):
-        self.refused(["free 0"] * 9 + [CELLS], 9)
-        self.refused(FRESH.split("\n") + [CELLS], 10)
+        self.refused(["free 0"] * 9 + [CELLS], 8)
+        self.refused(FRESH.split("\n") + [CELLS], 9)
         self.refused(FRESH.split("\n") + ["free 0"], 10)
-        self.refused(FRESH.split("\n") + ["free 0", CELLS], 11)
+        self.refused(FRESH.split("\n") + ["free 0", CELLS], 10)
 
     def test_rows_that_change_their_places(self):
         rows = FRESH.split("\n")
         for at in range(8):
-            self.refused(rows[:at] + [CELLS] + ["free 0"] * (8 - at), at + 1)
+            self.refused(rows[:at] + [CELLS] + ["free 0"] * (8 - at), at)
 
     def test_line_ends_at_both_ends_and_empty_rows(self):
         rows = FRESH.split("\n")
-        self.refused(rows + [""], 10)
-        self.refused(rows + ["", ""], 10)
-        self.refused([""] + rows, 1)
-        self.refused(rows + [""] + rows, 10)
-        self.refused(rows[:4] + [""] + rows[4:], 5)
-        self.refused(rows[:4] + [""], 5)
-        self.refused(["", ""], 1)
+        self.refused(rows + [""], 9)
+        self.refused(rows + ["", ""], 9)
+        self.refused([""] + rows, 0)
+        self.refused(rows + [""] + rows, 9)
+        self.refused(rows[:4] + [""] + rows[4:], 4)
+        self.refused(rows[:4] + [""], 4)
+        self.refused(["", ""], 0)
 
     def test_blanks_at_ends_and_doubled_and_other_signs(self):
         rows = FRESH.split("\n")
         for at, row in enumerate(rows):
             for bad in (row + " ", " " + row, row.replace(" ", "  ", 1), row.replace(" ", "", 1), row.upper(),
                         row + "-", row + ".", "~" + row, row.replace("0", "O", 1), row + "0", row[:-1]):
-                self.refused(rows[:at] + [bad] + rows[at + 1:], at + 1)
+                self.refused(rows[:at] + [bad] + rows[at + 1:], at)
 
     def test_any_sign_beside(self):
         text = written([page((("row", 1, 2, 13, (4, 5)), ("part", 20, 0, 1, None)), range(30, 54))])
@@ -199,7 +210,7 @@ class TestRead(unittest.TestCase):
                 if text[at] != sign:
                     with self.assertRaises(BadText) as told:
                         read(text[:at] + sign + text[at + 1:])
-                    line = text[:at].count("\n") + 1
+                    line = text[:at].count("\n")
                     self.assertEqual(told.exception.line, line)
 
 

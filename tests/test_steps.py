@@ -79,17 +79,25 @@ class TestRead(unittest.TestCase):
         for bad in BAD_STEPS:
             # The empty text alone is one of no steps.
             if bad:
-                self.refused([bad], 1)
-            self.refused([bad, "tidy"], 1)
-            self.refused(["tidy", "put 1", bad], 3)
-            self.refused(["tidy", bad, "put 1", bad], 2)
+                self.refused([bad], 0)
+            self.refused([bad, "tidy"], 0)
+            self.refused(["tidy", "put 1", bad], 2)
+            self.refused(["tidy", bad, "put 1", bad], 1)
+
+    def test_the_first_row_that_can_not_be_is_told(self):
+        self.refused(["0put put"], 0)
+        self.refused(["tidy", "put 5", "drop"], 2)
+        rows = ["tidy"] * 300
+        for line in reversed(range(300)):
+            rows[line] = "drop"
+            self.refused(rows, line)
 
     def test_line_ends_at_both_ends_and_empty_rows(self):
-        self.refused(["tidy", ""], 2)
-        self.refused(["", "tidy"], 1)
-        self.refused(["tidy", "", "tidy"], 2)
-        self.refused(["tidy", "", ""], 2)
-        self.refused(["", ""], 1)
+        self.refused(["tidy", ""], 1)
+        self.refused(["", "tidy"], 0)
+        self.refused(["tidy", "", "tidy"], 1)
+        self.refused(["tidy", "", ""], 1)
+        self.refused(["", ""], 0)
 
     def test_every_number(self):
         for number in range(1000):
@@ -99,15 +107,15 @@ class TestRead(unittest.TestCase):
                 self.assertEqual(read_steps(f"put {number}\nchange 0 {number}"),
                                  [("put", (number,)), ("change", 0, (number,))])
             else:
-                self.refused(["tidy", f"put {number}"], 2)
-                self.refused([f"change 0 {number}"], 1)
+                self.refused(["tidy", f"put {number}"], 1)
+                self.refused([f"change 0 {number}"], 0)
 
     def test_how_many_values(self):
         for many in (1, 2, 299, 300):
             self.assertEqual(read_steps("put " + ",".join(["5"] * many)), [("put", (5,) * many)])
         for many in (301, 302, 400):
-            self.refused(["put " + ",".join(["5"] * many)], 1)
-            self.refused(["again", "change 1 " + ",".join(["5"] * many)], 2)
+            self.refused(["put " + ",".join(["5"] * many)], 0)
+            self.refused(["again", "change 1 " + ",".join(["5"] * many)], 1)
 
 
 class TestBoth(unittest.TestCase):

@@ -148,7 +148,7 @@ class TestRefused(unittest.TestCase):
 
     def test_bad_text(self):
         for deed in (read, read_steps):
-            for text, line in (("no", 1), ("\n", 1), ("tidy\n\n", 2 if deed is read_steps else 1)):
+            for text, line in (("no", 0), ("\n", 0), ("tidy\n\n", 1 if deed is read_steps else 0)):
                 self.refused(BadText, deed, text)
                 with self.assertRaises(BadText) as told:
                     deed(text)
